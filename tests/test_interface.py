@@ -1,0 +1,88 @@
+"""[45] and [2]: each name stands in its file, each method in its class, with its parameters."""
+
+import ast
+import importlib
+import inspect
+import os
+import unittest
+
+PACKAGE = os.path.join(os.path.dirname(os.path.dirname(os.path.abspath(__file__))), "unkeptlines")
+
+FUNCTIONS = {
+    "variables": {"lines_of": "(addresses, line)"},
+    "ways": {
+        "neighbours": "(net, place)", "sum_of": "(net, way)", "lag": "(net, one, other)", "way": "(net, one, other)",
+        "still": "(net)"},
+}
+
+AGENT = {
+    "__init__": "(self, name, *steps)", "made": "(cls, name, steps)", "may": "(self, word)",
+    "with_steps": "(self, *steps)", "__len__": "(self)", "__getitem__": None, "__eq__": None}
+
+CLASSES = {
+    "variables": {"Variable": {
+        "__init__": "(self, name, size, *at)", "made": "(cls, name, size, at)", "__len__": "(self)",
+        "__getitem__": None, "__eq__": None}},
+    "agents": {"Agent": AGENT, "Through": AGENT, "Back": AGENT},
+    "signals": {"Signal": {"__init__": "(self, name, tokens=0)", "__eq__": None}},
+    "nets": {"Net": {
+        "__init__": "(self, *parts, line=8, ring=1)", "made": "(cls, parts, *, line=8, ring=1)", "__add__": None,
+        "__contains__": None, "__getitem__": None, "__len__": "(self)", "__eq__": None, "with_line": "(self, line)",
+        "with_agents": "(self, *agents)", "step": "(self, place)", "places": "(self)", "accesses": "(self)",
+        "touched": "(self, place, n)", "lines": "(self, place, n)"}},
+    "lags": {"Lag": {
+        "__init__": "(self, rounds)", "none": "()", "__add__": None, "__eq__": None, "__lt__": None,
+        "__bool__": "(self)"}},
+    "orders": {
+        "Order": {"__init__": "(self, net)", "ahead": "(self, one, n, other, m)", "lag": "(self, one, other)"},
+        "Known": {
+            "__init__": "(self, net, *ways)", "made": "(cls, net, ways)", "of": "(cls, net)",
+            "ahead": "(self, one, n, other, m)", "lag": "(self, one, other)"}},
+    "errors": {name: {} for name in (
+        "UnkeptError", "NoPart", "NoNet", "NoName", "NoStep", "NoWay", "Stands", "Clashes", "Blocked", "NoDeed",
+        "NoRun", "NoMend", "NoLaying", "TooMany", "NoText", "NoRow")},
+}
+
+CLASS_METHODS = (("variables", "Variable", "made"), ("agents", "Agent", "made"), ("agents", "Through", "made"),
+                 ("agents", "Back", "made"), ("nets", "Net", "made"), ("orders", "Known", "made"),
+                 ("orders", "Known", "of"))
+
+
+def bodies(module, kind):
+    """The functions or classes that stand at the top of a file, by name."""
+    with open(os.path.join(PACKAGE, module + ".py"), encoding="utf-8") as file:
+        tree = ast.parse(file.read())
+    return {node.name: node for node in tree.body if isinstance(node, kind)}
+
+
+class Interface(unittest.TestCase):
+    def test_functions(self):
+        for module, functions in FUNCTIONS.items():
+            there = bodies(module, ast.FunctionDef)
+            for name, parameters in functions.items():
+                self.assertIn(name, there)
+                function = getattr(importlib.import_module("unkeptlines." + module), name)
+                self.assertEqual(str(inspect.signature(function)), parameters)
+
+    def test_classes(self):
+        for module, classes in CLASSES.items():
+            there = bodies(module, ast.ClassDef)
+            for name, methods in classes.items():
+                self.assertIn(name, there)
+                own = {node.name for node in there[name].body if isinstance(node, ast.FunctionDef)}
+                told = getattr(importlib.import_module("unkeptlines." + module), name)
+                for method, parameters in methods.items():
+                    self.assertIn(method, own, name)
+                    if parameters is not None:
+                        function = inspect.getattr_static(told, method)
+                        function = getattr(function, "__func__", function)
+                        self.assertEqual(str(inspect.signature(function)), parameters, (name, method))
+
+    def test_class_methods(self):
+        for module, name, method in CLASS_METHODS:
+            told = getattr(importlib.import_module("unkeptlines." + module), name)
+            self.assertIsInstance(vars(told)[method], classmethod)
+
+
+if __name__ == "__main__":
+    unittest.main()

@@ -1,0 +1,1 @@
+"""Programs over caches that nobody keeps alike."""
