@@ -13,6 +13,17 @@ FUNCTIONS = {
     "ways": {
         "neighbours": "(net, place)", "sum_of": "(net, way)", "lag": "(net, one, other)", "way": "(net, one, other)",
         "still": "(net)"},
+    "clashes": {"meeting": "(net, one, n, other, m)", "clash": "(net)"},
+    "dues": {"due": "(net, place, n)"},
+    "machine": {"quietly": "(machine, deed)"},
+    "runs": {"play": "(net, rows, *, eager=True, whole=True)"},
+    "upkeep": {
+        "next_upkeep": "(net, place, n, line)", "last_drop": "(net, place, n, line)",
+        "first_access": "(net, place, n, line)"},
+    "spells": {"spells": "(net, name, line, *, eager=True)", "endless": "(net, name, line)"},
+    "faults": {"faults": "(net, order, *, eager=True, whole=True)"},
+    "judging": {"is_right": "(net, *, eager=True, whole=True)"},
+    "wrongs": {"wrong_run": "(net, fault, *, eager=True, whole=True)"},
 }
 
 AGENT = {
@@ -38,6 +49,13 @@ CLASSES = {
         "Known": {
             "__init__": "(self, net, *ways)", "made": "(cls, net, ways)", "of": "(cls, net)",
             "ahead": "(self, one, n, other, m)", "lag": "(self, one, other)"}},
+    "machine": {"Machine": {
+        "__init__": "(self, net, *, eager=True, whole=True)", "step": "(self, name)", "fetch": "(self, name, line)",
+        "write_back": "(self, name, line)", "discard": "(self, name, line)", "memory": "(self, address)",
+        "last": "(self, address)", "held": "(self, name, line)", "changed": "(self, name, line)",
+        "next_of": "(self, name)", "can": "(self, name)", "left": "(self, signal)", "acts": None, "wrong": None,
+        "twin": "(self)", "quiet": "(self)"}},
+    "faults": {"Fault": {"__eq__": None, "__lt__": None}},
     "errors": {name: {} for name in (
         "UnkeptError", "NoPart", "NoNet", "NoName", "NoStep", "NoWay", "Stands", "Clashes", "Blocked", "NoDeed",
         "NoRun", "NoMend", "NoLaying", "TooMany", "NoText", "NoRow")},
@@ -77,6 +95,11 @@ class Interface(unittest.TestCase):
                         function = inspect.getattr_static(told, method)
                         function = getattr(function, "__func__", function)
                         self.assertEqual(str(inspect.signature(function)), parameters, (name, method))
+
+    def test_properties(self):
+        machine = importlib.import_module("unkeptlines.machine").Machine
+        for name in ("acts", "wrong"):
+            self.assertIsInstance(vars(machine)[name], property)
 
     def test_class_methods(self):
         for module, name, method in CLASS_METHODS:

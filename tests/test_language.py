@@ -183,6 +183,53 @@ class Language(unittest.TestCase):
                 for word in re.findall("[A-Za-z_]+", token.string):
                     self.assertNotIn(word, WORDS, (name, token.start))
 
+    def test_l18_names_of_methods(self):
+        """No class has a method and an attribute of one name; a property has the name of no method at all."""
+        methods, properties = set(), set()
+        for name, tree in self.trees:
+            for node in tree.body:
+                if isinstance(node, ast.ClassDef):
+                    own = {one.name for one in node.body if isinstance(one, ast.FunctionDef)}
+                    fields = {one.attr for one in ast.walk(node)
+                              if isinstance(one, ast.Attribute) and isinstance(one.ctx, ast.Store)}
+                    self.assertFalse(own & fields, (name, node.name))
+                    for one in node.body:
+                        if isinstance(one, ast.FunctionDef):
+                            kinds = [deco.id for deco in one.decorator_list]
+                            (properties if "property" in kinds else methods).add(one.name)
+        self.assertFalse(properties & methods)
+
+    def test_l23_generators(self):
+        """The name of a generator is the name of nothing else that is called, and its call is iterated at once."""
+        found, all_names = [], []
+        for name, tree in self.trees:
+            for node in functions(tree):
+                all_names.append(node.name)
+                if any(isinstance(one, (ast.Yield, ast.YieldFrom)) for one in ast.walk(node)):
+                    found.append(node.name)
+        for one in found:
+            self.assertEqual(all_names.count(one), 1, one)
+        for name, tree in self.trees:
+            allowed = set()
+            for node in ast.walk(tree):
+                if isinstance(node, (ast.For, ast.comprehension)):
+                    allowed.add(node.iter)
+                if isinstance(node, ast.Call) and getattr(node.func, "id", None) in ("list", "tuple"):
+                    allowed |= set(node.args)
+            for node in ast.walk(tree):
+                if isinstance(node, ast.Call):
+                    called = getattr(node.func, "id", getattr(node.func, "attr", None))
+                    self.assertTrue(called not in found or node in allowed, (name, node.lineno))
+
+    def test_l5_with(self):
+        """What stands in __exit__ is only the assignment of attributes."""
+        for name, tree in self.trees:
+            for node in functions(tree):
+                if node.name == "__exit__":
+                    for row in node.body:
+                        self.assertIsInstance(row, ast.Assign, (name, row.lineno))
+                        self.assertIsInstance(row.value, ast.Attribute, (name, row.lineno))
+
     def test_l20_is(self):
         for name, tree in self.trees:
             for node in ast.walk(tree):

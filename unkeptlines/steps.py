@@ -3,7 +3,10 @@
 from unkeptlines.kinds import is_name, is_within
 
 ACCESS_WORDS = ("read", "write", "get", "put")
+READ_WORDS = ("read", "get")
+WRITE_WORDS = ("write", "put")
 UPKEEP_WORDS = ("clean", "drop", "flush")
+DROP_WORDS = ("drop", "flush")
 SIGNAL_WORDS = ("post", "wait")
 PLAIN_WORDS = ("read", "write", "post", "wait")
 CACHE_WORDS = ("read", "write", "get", "put", "clean", "drop", "flush", "post", "wait")

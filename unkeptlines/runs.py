@@ -1,0 +1,43 @@
+"""Runs, written down as rows."""
+
+from unkeptlines.errors import Blocked, NoDeed, NoName, NoRun
+from unkeptlines.machine import Machine
+
+MOST_ROWS = 4000
+DEEDS = ("fetch", "write_back", "discard")
+
+
+def play(net, rows, *, eager=True, whole=True):
+    """A machine that has done all rows."""
+    if not isinstance(rows, (tuple, list)) or len(rows) > MOST_ROWS:
+        raise NoRun(0)
+    machine = Machine(net, eager=eager, whole=whole)
+    for k, row in enumerate(rows):
+        if not _is_row(row):
+            raise NoRun(k)
+        try:
+            _do(machine, row)
+        except (NoName, Blocked, NoDeed):
+            raise NoRun(k) from None
+    return machine
+
+
+def _is_row(value):
+    """Whether a value has the form of a row; names and lines are any values here."""
+    if not isinstance(value, tuple):
+        return False
+    if len(value) == 2:
+        return value[0] == "step"
+    return len(value) == 3 and value[0] in DEEDS
+
+
+def _do(machine, row):
+    word, name = row[:2]
+    if word == "step":
+        machine.step(name)
+    elif word == "fetch":
+        machine.fetch(name, row[2])
+    elif word == "write_back":
+        machine.write_back(name, row[2])
+    else:
+        machine.discard(name, row[2])
