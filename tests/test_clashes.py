@@ -214,6 +214,18 @@ class Clash(Case):
                 agents = Agent("a", ("write", "x", shift, 0, 0)), Back("b", ("get", "x", 0, 0, 0))
                 self.assertTrue(self.check(Net(slots, *agents, ring=ring)))
 
+    def test_ordered_in_one_direction(self):
+        """Whoever posts does not wait for the other one: it may be any number of rounds ahead, but never behind."""
+        for ring in (1, 2, 3):
+            slots = Variable("x", 1, *range(ring))
+            for tokens in (0, 1, 3):
+                for shift in (0, 1):
+                    posts = Agent("a", ("write", "x", shift, 0, 0), ("post", "s"))
+                    waits = Agent("b", ("wait", "s"), ("read", "x", 0, 0, 0))
+                    net = Net(slots, Signal("s", tokens), posts, waits, ring=ring)
+                    self.assertIs(self.check(net), True)
+                    self.assertIs(self.check(net.with_agents(waits, posts)), True)
+
     def test_words(self):
         kinds = {"read": "read", "get": "read", "write": "write", "put": "write"}
         for one in kinds:

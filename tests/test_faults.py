@@ -294,6 +294,21 @@ class Spoilt(Case):
         self.assertEqual(words(net("write", "flush", "put"), eager=False), [])
         self.assertEqual(words(net("write", "clean"), eager=False), ["spoilt"])
 
+    def test_the_end_is_ahead_of_the_write(self):
+        """e cleans its line ahead of each write; but its next spell may begin ahead of the read."""
+        def net(*steps):
+            return Net(
+                X, Y, Signal("f"), Signal("g"), Signal("h"), Signal("i", 1),
+                Agent("a", ("wait", "h"), ("wait", "i"), on("write"), ("post", "f"), ("post", "g")),
+                Agent("b", ("wait", "f"), on("read"), ("post", "i")),
+                Back("e", *steps, ("post", "h"), ("wait", "g")), line=2)
+
+        told_now = ("e", ((2, 0), 1), ((2, 1), 1), None)
+        for eager in (True, False):
+            self.assertEqual(told(net(on("write", "y"), on("clean", "y")), eager=eager),
+                             [((1, 1), 0, 0, "spoilt", ((0, 2), 0), told_now)])
+            self.assertEqual(told(net(on("flush"), on("write", "y"), on("clean", "y")), eager=eager), [])
+
     def test_by_the_reader(self):
         net = handed(Agent, [on("write")], Back, [on("write", "y"), on("flush"), on("get")])
         (fault,) = told(net)

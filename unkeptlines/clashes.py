@@ -29,8 +29,7 @@ def order_without_clash(net):
     order = Order(net)
     found = _clash_by(net, order)
     if found is not None:
-        one, _, other, _ = found
-        raise Clashes(one, other)
+        raise Clashes(found[0], found[2])
     return order
 
 
@@ -59,7 +58,7 @@ def _are_rivals(net, one, other):
 
 def _rounds_apart(net, order, one, other):
     """A number of rounds such that other, so much later than one, is in its slot and unordered with it, or None."""
-    _, name, shift, _, _ = net.step(one)
+    name, shift = net.step(one)[1:3]
     slots = len(net[name])
     rest = shift - net.step(other)[2]
     above = order.lag(other, one).rounds

@@ -20,9 +20,8 @@ def _last_ahead(net, order, rows, place, n):
     """Of the writes in rows the last one that is ahead of (place, n), or None."""
     found = None
     for write, rests in rows:
-        least = order.lag(write, place).rounds
-        if least is not None:
-            k = last_round(rests, net.ring, n - least)
-            if k >= 0 and (found is None or order.ahead(found[0], found[1], write, k)):
-                found = (write, k)
+        # Without a clash there is such a lag: each write of the byte is ordered with the read.
+        k = last_round(rests, net.ring, n - order.lag(write, place).rounds)
+        if k >= 0 and (found is None or order.ahead(found[0], found[1], write, k)):
+            found = (write, k)
     return found

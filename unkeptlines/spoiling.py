@@ -57,10 +57,9 @@ def _spoilt_changed(view, number, write, line, address):
     first = None
     for place, rests in view.writes[address]:
         if place[0] == number and view.word_of((place, 0)) == "write":
-            least = view.least(place, write[0])
-            if least is not None:
-                other = (place, last_round(rests, view.net.ring, write[1] - least))
-                first = other if first is None or view.is_ahead(first, other) else first
+            # There is such a lag: the order tells that write is the last one.
+            other = (place, last_round(rests, view.net.ring, write[1] - view.least(place, write[0])))
+            first = other if first is None or view.is_ahead(first, other) else first
     if first is None:
         return None
     end = view.upkeep_behind(first, line)

@@ -110,8 +110,7 @@ def _rounds_later(view, fault, line):
     if fault.word == "unsent":
         parts.extend(fault.cause)
     if fault.word == "spoilt":
-        _, first, _, source = fault.cause
-        parts.extend([first, source])
+        parts.extend([fault.cause[1], fault.cause[3]])
     ring = view.net.ring
     earliest = min([int(part[1]) for part in parts if part is not None])
     return (2 - earliest // ring) * ring
