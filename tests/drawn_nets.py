@@ -149,3 +149,50 @@ def net_in_pairs(seed):
             rows[one].append(("post", names[k]))
     agents = [kinds[one]("p" + "abcd"[one], *rows[one][:24]) for one in sorted(rows)]
     return Net(*variables, *parts, *agents, line=chance.choice((2, 4, 4, 8, 16)), ring=ring)
+
+
+def filled_row(chance, row, many, variables, kind, words=None):
+    """A row of steps, with more of them behind, until there are so many."""
+    row = list(row)
+    while len(row) < many:
+        step = drawn_step(chance, variables, kind)
+        if words is not None:
+            step = drawn_access(chance, variables, words[:1] if kind is Agent else words)
+        row.extend(guarded(chance, step, kind))
+    return row[:many]
+
+
+def large_net(seed):
+    """Four agents of 24 steps and six variables: they take turns, or are two pairs, or do not know of each other."""
+    chance = random.Random(seed)
+    ring = chance.choice((1, 2, 3, 4, 4))
+    variables, address = [], 0
+    for name in "uvwxyz":
+        size, at = chance.choice((1, 2, 4, 8)), []
+        for _ in range(chance.choice((1, ring))):
+            at.append(address)
+            address += size + chance.choice((0, 0, 1, 8))
+        variables.append(Variable(name, size, *at))
+    kinds = [chance.choice(KINDS) for _ in range(4)]
+    manner = seed % 3
+    if manner == 0:
+        signals = [Signal("sa"), Signal("sb"), Signal("sc"), Signal("sd", chance.choice((1, 1, 1, 2, 3)))]
+        rows = [filled_row(chance, [("wait", "s" + "dabc"[k])], 23, variables, kinds[k]) for k in range(4)]
+        rows = [row + [("post", "s" + "abcd"[k])] for k, row in enumerate(rows)]
+    elif manner == 1:
+        many = [chance.choice((1, 1, 2, 3)) for _ in range(2)]
+        signals = [Signal("sa"), Signal("sb", many[0]), Signal("sc"), Signal("sd", many[1])]
+        rows = []
+        for k in range(4):
+            own, words = variables[k // 2 * 3:][:3], (("write", "put"), ("read", "get"))[k % 2]
+            row = filled_row(chance, [("wait", "s" + "badc"[k])], 23, own, kinds[k], words)
+            rows.append(row + [("post", "s" + "abcd"[k])])
+        if chance.random() < 0.5:
+            # The pairs are far apart, but not without limit.
+            signals += [Signal("se", 3), Signal("sf", 3)]
+            rows[0][5], rows[2][7], rows[2][9], rows[0][11] = ("post", "se"), ("wait", "se"), ("post", "sf"), ("wait", "sf")
+    else:
+        signals = []
+        rows = [filled_row(chance, [], 24, [variables[k]], kinds[k]) for k in range(4)]
+    agents = [kind("p" + "abcd"[k], *row) for k, (kind, row) in enumerate(zip(kinds, rows))]
+    return Net(*variables, *signals, *agents, line=chance.choice((4, 8, 16)), ring=ring)

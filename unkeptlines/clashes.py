@@ -21,19 +21,20 @@ def meeting(net, one, n, other, m):
 
 def clash(net):
     """Two accesses that clash, as (one, n, other, m); None if there are none."""
-    return _clash_by(net, Order(net))
+    return clash_by(net, Order(net))
 
 
 def order_without_clash(net):
     """The order of a net; raises Stands if it stands still, then Clashes if it has a clash."""
     order = Order(net)
-    found = _clash_by(net, order)
+    found = clash_by(net, order)
     if found is not None:
         raise Clashes(found[0], found[2])
     return order
 
 
-def _clash_by(net, order):
+def clash_by(net, order):
+    """Two accesses that clash as far as an order tells, an Order or a Known; None if there are none."""
     places = list(net.accesses())
     for k, one in enumerate(places):
         for other in places[k + 1:]:

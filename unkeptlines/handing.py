@@ -5,7 +5,14 @@ from unkeptlines.writes import last_round
 
 def told_write(view, read, address):
     """The last write of a byte that is ahead of a read, as far as the order tells; None if it does not."""
-    rows = view.writes[address]
+    # Bytes that are written by the same steps have the same last write.
+    key = (read, view.groups[address])
+    if key not in view.told:
+        view.told[key] = _told_among(view, read, view.writes[address])
+    return view.told[key]
+
+
+def _told_among(view, read, rows):
     for place, rests in rows:
         least = view.least(place, read[0])
         if least is not None:

@@ -54,7 +54,7 @@ class Known:
     @classmethod
     def of(cls, net):
         """What is known from a least way from each post to each wait of another agent."""
-        ways = _ways_between(net)
+        ways = ways_between(net)
         return cls(net, *ways)
 
     def ahead(self, one, n, other, m):
@@ -106,7 +106,8 @@ def _ends_of(net, ways):
     return ends
 
 
-def _ways_between(net):
+def ways_between(net):
+    """A least way from each post to each wait of another agent, where there is one."""
     table = neighbour_table(net)
     places = list(net.places())
     posts = [place for place in places if net.step(place)[0] == "post"]

@@ -2,7 +2,7 @@
 
 from unkeptlines.spells import endless, spells
 from unkeptlines.upkeep import last_source, next_upkeep
-from unkeptlines.writes import writes_by_address
+from unkeptlines.writes import groups_of, writes_by_address
 
 
 class View:
@@ -12,6 +12,8 @@ class View:
         self.net = net
         self.eager = eager
         self.writes = writes_by_address(net)
+        self.groups = groups_of(self.writes)
+        self.told = {}
         self._order = order
         self._rounds = {}
         self._upkeeps = {}

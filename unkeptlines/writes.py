@@ -17,6 +17,16 @@ def writes_by_address(net):
     return {address: list(writes[address].items()) for address in writes}
 
 
+def groups_of(writes):
+    """For each address that is written a number, the same one for addresses with equal rows."""
+    numbers = {}
+    groups = {}
+    for address, rows in writes.items():
+        key = tuple([(place, tuple(rests)) for place, rests in rows])
+        groups[address] = numbers.setdefault(key, len(numbers))
+    return groups
+
+
 def last_round(rests, ring, most):
     """The greatest round up to most that has one of these rests by ring."""
     return max([int(most - (most - rest) % ring) for rest in rests])
