@@ -24,6 +24,17 @@ FUNCTIONS = {
     "faults": {"faults": "(net, order, *, eager=True, whole=True)"},
     "judging": {"is_right": "(net, *, eager=True, whole=True)"},
     "wrongs": {"wrong_run": "(net, fault, *, eager=True, whole=True)"},
+    "judge": {"judge": "(net, *, eager=True, whole=True)"},
+    "checker": {"holds": "(net, finding)"},
+    "thirds": {"thirds": "(net)"},
+    "flushes": {"flushed": "(net)", "mended": "(net, *, eager=True, whole=True)"},
+    "laying": {"laid": "(net)", "pads": "(net)"},
+    "logs": {
+        "log_of": "(net, rows, *, eager=True, whole=True)",
+        "explained": "(net, log, *, eager=True, whole=True, most=500)",
+        "none_table": "(net, log, *, eager=True, whole=True, most=500)",
+        "holds_none": "(net, log, table, *, eager=True, whole=True)"},
+    "texts": {"net_text": "(net)", "read_net": "(text)"},
 }
 
 AGENT = {
@@ -56,6 +67,13 @@ CLASSES = {
         "next_of": "(self, name)", "can": "(self, name)", "left": "(self, signal)", "acts": None, "wrong": None,
         "twin": "(self)", "quiet": "(self)"}},
     "faults": {"Fault": {"__eq__": None, "__lt__": None}},
+    "findings": {
+        "Finding": {"__eq__": None, "__bool__": "(self)"},
+        "Still": {"__init__": "(self, ring)", "__eq__": None, "__bool__": "(self)"},
+        "Clash": {"__init__": "(self, one, other, run)", "__eq__": None, "__bool__": "(self)"},
+        "Wrong": {"__init__": "(self, rows, eager, whole)", "__eq__": None, "__bool__": "(self)"},
+        "Right": {"__init__": "(self, steps, ways, eager, whole)", "__eq__": None, "__bool__": "(self)"}},
+    "desk": {"Desk": {"__init__": "(self)", "current": None, "say": "(self, row)"}},
     "errors": {name: {} for name in (
         "UnkeptError", "NoPart", "NoNet", "NoName", "NoStep", "NoWay", "Stands", "Clashes", "Blocked", "NoDeed",
         "NoRun", "NoMend", "NoLaying", "TooMany", "NoText", "NoRow")},
@@ -100,6 +118,7 @@ class Interface(unittest.TestCase):
         machine = importlib.import_module("unkeptlines.machine").Machine
         for name in ("acts", "wrong"):
             self.assertIsInstance(vars(machine)[name], property)
+        self.assertIsInstance(vars(importlib.import_module("unkeptlines.desk").Desk)["current"], property)
 
     def test_class_methods(self):
         for module, name, method in CLASS_METHODS:

@@ -109,9 +109,21 @@ class Language(unittest.TestCase):
                 elif isinstance(node, ast.Assign):
                     self.assertEqual(len(node.targets), 1)
                     self.assertIsInstance(node.targets[0], ast.Name)
-                    ast.literal_eval(node.value)
+                    above = [one.name for one in tree.body[:k] if isinstance(one, ast.FunctionDef)]
+                    self.check_value(node.value, above, name)
                 else:
                     self.assertIsInstance(node, (ast.ImportFrom, ast.FunctionDef, ast.ClassDef), (name, node.lineno))
+
+    def check_value(self, value, above, name):
+        """A plain value, or a dict of functions that stand above it."""
+        if isinstance(value, ast.Dict):
+            for one in value.values:
+                if isinstance(one, ast.Name):
+                    self.assertIn(one.id, above, name)
+                else:
+                    ast.literal_eval(one)
+        else:
+            ast.literal_eval(value)
 
     def test_l6_statements(self):
         for name, tree in self.trees:

@@ -9,17 +9,26 @@ DEEDS = ("fetch", "write_back", "discard")
 
 def play(net, rows, *, eager=True, whole=True):
     """A machine that has done all rows."""
+    machine, _ = played(net, rows, eager, whole)
+    return machine
+
+
+def played(net, rows, eager, whole):
+    """A machine that has done all rows, and the steps that it did: (name, what the step returned) for each."""
     if not isinstance(rows, (tuple, list)) or len(rows) > MOST_ROWS:
         raise NoRun(0)
     machine = Machine(net, eager=eager, whole=whole)
+    steps = []
     for k, row in enumerate(rows):
         if not _is_row(row):
             raise NoRun(k)
         try:
-            _do(machine, row)
+            got = _do(machine, row)
         except (NoName, Blocked, NoDeed):
             raise NoRun(k) from None
-    return machine
+        if row[0] == "step":
+            steps.append((row[1], got))
+    return machine, tuple(steps)
 
 
 def _is_row(value):
@@ -32,12 +41,14 @@ def _is_row(value):
 
 
 def _do(machine, row):
+    """Does a row; what a step of it returns."""
     word, name = row[:2]
     if word == "step":
-        machine.step(name)
-    elif word == "fetch":
+        return machine.step(name)
+    if word == "fetch":
         machine.fetch(name, row[2])
     elif word == "write_back":
         machine.write_back(name, row[2])
     else:
         machine.discard(name, row[2])
+    return None
