@@ -8,6 +8,8 @@ import re
 import tokenize
 import unittest
 
+from walked import changes_in_walks, functions, generators, name_called
+
 PACKAGE = os.path.join(os.path.dirname(os.path.dirname(os.path.abspath(__file__))), "unkeptlines")
 
 BUILTINS = set(
@@ -38,10 +40,6 @@ def files():
         if name != "__pycache__":
             with open(os.path.join(PACKAGE, name), encoding="utf-8") as file:
                 yield name, file.read()
-
-
-def functions(tree):
-    return [node for node in ast.walk(tree) if isinstance(node, ast.FunctionDef)]
 
 
 def strings(text):
@@ -213,12 +211,8 @@ class Language(unittest.TestCase):
 
     def test_l23_generators(self):
         """The name of a generator is the name of nothing else that is called, and its call is iterated at once."""
-        found, all_names = [], []
-        for name, tree in self.trees:
-            for node in functions(tree):
-                all_names.append(node.name)
-                if any(isinstance(one, (ast.Yield, ast.YieldFrom)) for one in ast.walk(node)):
-                    found.append(node.name)
+        found = generators([tree for _, tree in self.trees])
+        all_names = [node.name for _, tree in self.trees for node in functions(tree)]
         for one in found:
             self.assertEqual(all_names.count(one), 1, one)
         for name, tree in self.trees:
@@ -229,9 +223,15 @@ class Language(unittest.TestCase):
                 if isinstance(node, ast.Call) and getattr(node.func, "id", None) in ("list", "tuple"):
                     allowed |= set(node.args)
             for node in ast.walk(tree):
-                if isinstance(node, ast.Call):
-                    called = getattr(node.func, "id", getattr(node.func, "attr", None))
-                    self.assertTrue(called not in found or node in allowed, (name, node.lineno))
+                if name_called(node) in found:
+                    self.assertIn(node, allowed, (name, node.lineno))
+
+    def test_l23_walked_generators(self):
+        """Nothing is changed while a generator is walked: rows = list(..) stands in a row of its own first."""
+        trees = [tree for _, tree in self.trees]
+        self.assertLessEqual({"places", "accesses", "faults", "spells", "thirds", "third_pairs"}, generators(trees))
+        for name, tree in self.trees:
+            self.assertEqual(changes_in_walks(tree, trees), [], name)
 
     def test_l5_with(self):
         """What stands in __exit__ is only the assignment of attributes."""

@@ -205,11 +205,13 @@ class Laid(Case):
         self.assertIs(type(caught.exception), Stands)
 
     def test_changes_nothing(self):
-        before = copy.deepcopy((N, FILL))
-        laid(N)
-        pads(N)
-        laid(FILL)
-        self.assertEqual((N, FILL), before)
+        before = copy.deepcopy((N, FILL, S, THREE))
+        for net in (N, FILL, S):
+            told = addresses(laid(net))
+            pads(net)
+            self.assertEqual(addresses(laid(net)), told)
+        self.raises(NoLaying, {"variable": "s", "slot": 0}, laid, THREE)
+        self.assertEqual((N, FILL, S, THREE), before)
 
 
 class Pads(Case):

@@ -32,7 +32,9 @@ class Fault:
 def faults(net, order, *, eager=True, whole=True):
     """Yields the faults, by places, rounds and addresses."""
     view = View(net, order, eager)
-    for place in net.accesses():
+    # The view keeps what the loop asks of it: so no generator is walked meanwhile.
+    places = list(net.accesses())
+    for place in places:
         if net.step(place)[0] in READ_WORDS:
             for n in range(net.ring):
                 for address in net.touched(place, n):

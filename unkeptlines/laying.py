@@ -39,7 +39,8 @@ def _parting_bytes(net):
     order = order_without_clash(net)
     seen = {}
     parting = {}
-    for _, _, _, _, due, others in third_pairs(net, order):
+    rows = list(third_pairs(net, order))
+    for _, _, _, _, due, others in rows:
         if (due, others) not in seen:
             seen[(due, others)] = True
             for x in due:

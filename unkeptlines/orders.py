@@ -33,7 +33,8 @@ def _sums_between(net):
     """For each place the least sums of ways to the places that it reaches."""
     table = neighbour_table(net)
     sums = {}
-    for place in net.places():
+    places = list(net.places())
+    for place in places:
         reached = reached_from(table, place)
         sums[place] = {end: reached[end][0] for end in reached}
     return sums

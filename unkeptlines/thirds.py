@@ -40,7 +40,8 @@ def _due_bytes(net, order):
     """For each (write, rest) the bytes for which the write is due, ascending, in the rounds with this rest."""
     view = View(net, order, True)
     found = {}
-    for place in net.accesses():
+    places = list(net.accesses())
+    for place in places:
         if net.step(place)[0] in READ_WORDS:
             for n in range(net.ring):
                 for address in net.touched(place, n):

@@ -18,7 +18,8 @@ def _waits(net):
     """For each signal, by name, its wait and its tokens."""
     tokens = {signal.name: signal.tokens for signal in net.signals}
     waits = {}
-    for place in net.places():
+    places = list(net.places())
+    for place in places:
         word, name = net.step(place)[:2]
         if word == "wait":
             waits[name] = (place, tokens[name])

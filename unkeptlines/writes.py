@@ -9,7 +9,8 @@ def writes_by_address(net):
     The write touches the address in the rounds that have one of these rests by ring.
     """
     writes = {}
-    for place in net.accesses():
+    places = list(net.accesses())
+    for place in places:
         if net.step(place)[0] in WRITE_WORDS:
             for rest in range(net.ring):
                 for address in net.touched(place, rest):
